@@ -1,0 +1,1 @@
+"""Frameback: made code, and the way back out of it."""
