@@ -1,4 +1,4 @@
-"""The bounds of the numbers that rows are made of."""
+"""The bounds of the numbers that rows are made of, and of code."""
 
 from frameback.errors import NoRow
 
@@ -6,6 +6,7 @@ TOP_BOX = 7
 TOP_VALUE = 4294967295
 TOP_CELLS = 4000
 TOP_TARGET = 2000
+TOP_ROWS = 2000
 
 
 def bounded(number, top):
