@@ -1,6 +1,6 @@
 """Tables pressed into short rows, and read from them."""
 
-from frameback.bounds import TOP_ROWS
+from frameback.bounds import TOP_ROWS, is_whole
 from frameback.errors import NoTable
 from frameback.tables import START, Table, sets_of
 
@@ -8,11 +8,6 @@ from frameback.tables import START, Table, sets_of
 COUNTS = {"height": 1, "place": 2, "keep": 0, "again": 0, "same": 1, "none": 1, "land": 2}
 # How a short row calls each of an entry's four sets.
 WHICH = (0, 4, 5, 6)
-
-
-def is_whole(number):
-    """Tell whether this is a whole number from 0 on."""
-    return isinstance(number, int) and not isinstance(number, bool) and number >= 0
 
 
 def has_form(row):

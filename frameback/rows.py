@@ -1,8 +1,7 @@
 """Rows of code that fill boxes and move the pile, and the base of all rows."""
 
-from frameback.bounds import TOP_BOX, TOP_CELLS, TOP_VALUE, bounded
+from frameback.bounds import TOP_BOX, TOP_CELLS, TOP_VALUE, VALUES, bounded
 
-VALUES = 4294967296
 FIRST_CELL_BIT = 8
 
 
