@@ -2,12 +2,11 @@
 
 from frameback.bounds import TOP_CELLS
 from frameback.rows import FIRST_CELL_BIT, box_place
-from frameback.tables import START, sets_of
+from frameback.tables import KEPT_BOXES, START, sets_of
 from frameback.ways import Back, Call
 
 # What a complaint calls each of an entry's four sets.
 SET_NAMES = ("back", 4, 5, 6)
-KEPT_BOXES = (4, 5, 6)
 
 
 def is_row(number, entries):

@@ -1,5 +1,6 @@
 """Tables: what is known ahead of each row of a code."""
 
+KEPT_BOXES = (4, 5, 6)
 # No piece, the row to go back to in box 7, the values of boxes 4, 5, 6 each in its own box.
 START = (0, 128, (16, 32, 64))
 

@@ -9,28 +9,41 @@ class Programs:
 
     def __init__(self, chance, functions, statements):
         self.chance = chance
-        self.left = statements
         self.handed = [chance.randrange(4) for function in range(functions)]
+        self.each = max(1, statements // functions)
+        self.left = 0
         self.number = 0
 
     def program(self):
         made = []
-        each = max(1, self.left // len(self.handed))
         for number, handed in enumerate(self.handed):
             self.number = number
             # What a function didn't use is left for those behind it.
-            spare = self.left - each * (len(self.handed) - number)
-            made.append((handed, self.body(each + max(0, spare))))
+            self.left += self.each
+            made.append((handed, self.body()))
         return made
 
-    def body(self, most):
-        stop = max(0, self.left - most)
-        body = []
-        while self.left > stop:
+    def body(self):
+        body = self.opening()
+        while self.left > 0:
             body += self.statement(0)
             if self.chance.random() < 0.05:
                 break
         return body
+
+    def opening(self):
+        """How a body begins: often so that a drop goes through several functions and lands."""
+        way = self.chance.random()
+        if self.left < 5 or way < 0.3:
+            return []
+        if not self.is_last() and (self.number == 0 or way < 0.4):
+            self.left -= 2
+            called = ("call", self.name()) + self.function_and_names()
+            return [("try", [called] + self.some(1), self.name(), self.some(1))]
+        if way < 0.75:
+            return self.call(0)
+        self.take()
+        return [("drop", self.name())]
 
     def name(self):
         return self.chance.randrange(6)
@@ -63,7 +76,6 @@ class Programs:
         return [(word, self.name(), self.name(), self.name())]
 
     def function_and_names(self):
-        # Most go to a later function: else few runs would come to an end.
         least = self.number + 1 if self.chance.random() < 0.85 else 0
         if least >= len(self.handed):
             least = 0
@@ -71,7 +83,13 @@ class Programs:
         names = [self.name() for part in range(self.handed[number])]
         return (number, names if self.chance.random() < 0.7 else tuple(names))
 
+    def is_last(self):
+        """Whether no later function is there, mostly: else few runs would come to an end."""
+        return self.number == len(self.handed) - 1 and self.chance.random() < 0.85
+
     def call(self, within):
+        if self.is_last():
+            return self.plain(within)
         self.take()
         return [("call", self.name()) + self.function_and_names()]
 
@@ -79,7 +97,7 @@ class Programs:
         """A drop, a give or a hand; mostly on one of two ways only."""
         chance = self.chance
         self.take()
-        word = chance.choice(("drop", "drop", "give", "hand"))
+        word = chance.choice(("drop", "drop", "give", "give" if self.is_last() else "hand"))
         made = [("hand",) + self.function_and_names()] if word == "hand" else [(word, self.name())]
         if within < 4 and self.left > 0 and chance.random() < 0.8:
             self.take()
